@@ -54,10 +54,29 @@ func TestTree(t *testing.T) { // P27.1
 	want(t, "of an empty disk", paths(got)+err.Error(), api.OK.Error())
 }
 
-func TestTreeWhole(t *testing.T) { // P27.1: where a directory stands in the archive's place
-	d := laid(t, "a:fA z:d z.part:d z.part/x:fX z.parts:d z/a:d z/a/b:fB")
-	got, err := Tree(d, Job{Archive: "z"})
-	want(t, "a directory, and all in it", text(got)+err.Error(), "a:fA z.parts:d"+api.OK.Error())
+func TestTreeLeavesOutTwoAlone(t *testing.T) { // P27.1: what is in a directory at one of the two paths has another path
+	for _, c := range []struct{ disk, root, archive, wanted string }{
+		{"dir:d dir/sub:d dir/sub/x:d", "", "dir/sub", "dir:d dir/sub/x:d"},
+		{"a:f z:f z.part:d z.part/x:f", "", "z", "a:f z.part/x:f"},
+		{"dir:d dir/sub:d dir/sub/x:f dir/y:f", "dir", "dir/sub", "sub/x:f y:f"},
+		{"a:fA z:d z/a:d z/a/b:fB z.part:d z.part/x:fX z.parts:d z.parts/y:fY", "", "z", "a:fA z/a:d z/a/b:fB z.part/x:fX z.parts:d z.parts/y:fY"},
+		{"z:d z/z:d z/z/z:f z/z.part:f z.part:f", "", "z", "z/z:d z/z/z:f z/z.part:f"},
+		{"b:d b/z:f b/z.part:d b/z.part/x:d b/z.part/x/y:f c:f", "b", "b/z", "z.part/x:d z.part/x/y:f"},
+		{"b:d b/z:d b/z/x:f b/z.part:d b/z.part/y:f l:lb", "b", "l/z", "z/x:f z.part/y:f"},
+		{"b:d b/z:d b/z/x:f b/z.part:d b/z.part/y:f l:lb", "", "l/z", "b:d b/z/x:f b/z.part/y:f l:lb"},
+		{"b:d b/c:d b/c/z:d b/c/z/x:f l:lb", "l/c", "b/c/z", "z/x:f"},
+		{"z:d z/z:d z/z/x:f z/y:f", "z", "z", "y:f z:d z/x:f"}, // the root is the archive's place, and isn't among it
+		{"z:d z.part:d z.part/z.part:d z.part/y:f", "z.part", "z", "y:f z.part:d"},
+		{"z:d z.part:d", "", "z", ""},
+	} {
+		what := c.disk + ", " + c.root + ", " + c.archive
+		d := laid(t, c.disk)
+		still(t, what, d, func() {
+			got, err := Tree(d, Job{Root: c.root, Archive: c.archive})
+			want(t, what+": error", err, api.OK)
+			want(t, what, text(got), c.wanted)
+		})
+	}
 }
 
 func TestTreeErrors(t *testing.T) { // P27.1

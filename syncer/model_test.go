@@ -182,6 +182,72 @@ func TestAnyPower(t *testing.T) { // P27.4, P5
 	}
 }
 
+// listed: a job's tree by its words, of all that a disk shows: what is under the root's real path, but what is at the archive's or at the temporary file's.
+func listed(d *disk.Disk, j Job) []api.Item {
+	archive, _ := d.Real(j.Archive)
+	under := ""
+	if j.Root != "" {
+		root, _ := d.Real(j.Root)
+		under = root + "/"
+	}
+	var out []api.Item
+	for _, x := range d.All() {
+		path, is := strings.CutPrefix(x.Path, under)
+		if is && x.Path != archive && x.Path != archive+".part" {
+			out = append(out, api.Item{Path: path, Node: x.Node})
+		}
+	}
+	return out
+}
+
+// anyDirectories: a path through few directories and links.
+func anyDirectories(r *rand.Rand, parts int) string {
+	var out []string
+	for range parts {
+		out = append(out, []string{"a", "a", "a", "a.part", "a.part", "b", "l"}[r.Intn(7)])
+	}
+	return strings.Join(out, "/")
+}
+
+func TestAnyTree(t *testing.T) { // P27.1: whatever stands in the two places, and wherever they are
+	r := rand.New(rand.NewSource(16))
+	oks, within := 0, 0
+	for i := range 6000 {
+		d := disk.New(roomy)
+		for range 10 + r.Intn(50) {
+			n := node([]string{"d1", "d2", "d3", "d4", "d5", "fx"}[r.Intn(6)])
+			path := anyDirectories(r, 1+r.Intn(4))
+			if strings.HasSuffix(path, "l") {
+				n = node("l" + []string{"a", "b", "/a", "..", "a.part"}[r.Intn(5)])
+			}
+			d.Make(path, n)
+		}
+		j := Job{Root: anyDirectories(r, r.Intn(3)), Archive: anyDirectories(r, 1+r.Intn(3))}
+		what := of("tree", i) + ": " + text(d.All()) + ", of " + j.Root + ", " + j.Archive
+		got, err := Tree(d, j)
+		if err != api.OK {
+			continue
+		}
+		oks++
+		want(t, what, text(got), text(listed(d, j)))
+		real, _ := d.Real(j.Archive)
+		if !slices.ContainsFunc(d.All(), func(x api.Item) bool {
+			return strings.HasPrefix(x.Path, real+"/") || strings.HasPrefix(x.Path, real+".part/")
+		}) {
+			continue
+		}
+		within++
+		refused := api.ErrThere
+		if n, err := d.Stat(j.Archive); err == api.OK && n.Kind != api.File {
+			refused = api.ErrKind
+		}
+		refuses(t, what+": Run", d, Job{Root: j.Root, Archive: j.Archive, Mode: plan.Sync, Level: 6}, refused)
+	}
+	if min(oks, within) < 1000 {
+		t.Errorf("too few: %d trees, %d with something in a directory in one of the places", oks, within)
+	}
+}
+
 // anyPath: one that is right, or not.
 func anyPath(r *rand.Rand) string {
 	out := ""

@@ -50,7 +50,7 @@ func (s start) renewed(t *testing.T) (string, Report) {
 // beside: what is shown beside an archive and its temporary file.
 func beside(d *disk.Disk, archive string) string {
 	real, _ := d.Real(archive)
-	return text(tree.Drop(tree.Drop(d.All(), real), Temp(real)))
+	return text(slices.DeleteFunc(d.All(), func(x api.Item) bool { return x.Path == real || x.Path == Temp(real) }))
 }
 
 // whole: a test fails, if something else than an archive's old bytes, or all the new ones, is there, or a temporary file, or if the rest isn't as it was; are they the new ones?
